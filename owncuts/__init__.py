@@ -1,0 +1,1 @@
+"""A backup store that cuts any texts by their own signs."""
