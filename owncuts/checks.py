@@ -1,6 +1,6 @@
 """What an argument has to be, apart from any ground, and the errors where it is not."""
 
-from owncuts.errors import InvalidNumber, InvalidText, InvalidWord
+from owncuts.errors import InvalidNumber, InvalidPlace, InvalidText, InvalidWord
 
 LETTERS = "abcdefghijklmnopqrstuvwxyz"
 
@@ -12,6 +12,20 @@ def is_whole_number(value):
 
 def is_count(value):
     return is_whole_number(value) and value >= 0
+
+
+def is_ascending(values):
+    """Return whether each of the things in a list is less than the next one."""
+    return all([one < other for one, other in zip(values, values[1:])])
+
+
+def is_list_of_whole_numbers(value):
+    return isinstance(value, list) and all([is_whole_number(number) for number in value])
+
+
+def are_places(value):
+    """Return whether any object is an ascending list of whole numbers."""
+    return is_list_of_whole_numbers(value) and is_ascending(value)
 
 
 def is_made_of(value, signs):
@@ -38,7 +52,18 @@ def check_word(value):
         raise InvalidWord(value)
 
 
+def check_place_up_to(value, most):
+    """Raise InvalidPlace unless the object is a count, at most a number."""
+    if not is_count(value) or value > most:
+        raise InvalidPlace(value)
+
+
 def check_number(value, least):
     """Raise InvalidNumber unless the object is a count from `least` on."""
     if not is_count(value) or value < least:
         raise InvalidNumber(value)
+
+
+def check_whole_place(value):
+    if not is_whole_number(value):
+        raise InvalidPlace(value)

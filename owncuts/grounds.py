@@ -1,8 +1,8 @@
 """Grounds: signs and a gap; and their windows, with what lies near what."""
 
 from owncuts.checks import LETTERS, is_count, is_made_of
-from owncuts.errors import InvalidGap, InvalidGround, InvalidSigns, InvalidWindow
-from owncuts.periods import least_period, many_primitives, many_words
+from owncuts.errors import InvalidGap, InvalidGround, InvalidSigns, InvalidText, InvalidWindow, InvalidWord
+from owncuts.periods import least_period, many_primitives, many_words, repeats_below
 
 
 def _are_signs(value):
@@ -43,8 +43,36 @@ def is_text_of(ground, value):
     return is_made_of(value, ground.signs())
 
 
+def is_word_of(ground, value):
+    return is_text_of(ground, value) and value != ""
+
+
+def check_text_of(ground, value):
+    if not is_text_of(ground, value):
+        raise InvalidText(value)
+
+
+def check_word_of(ground, value):
+    if not is_word_of(ground, value):
+        raise InvalidWord(value)
+
+
+def is_window(ground, value):
+    return is_text_of(ground, value) and len(value) == ground.width()
+
+
+def is_own_window(ground, value):
+    """Return whether any object is an own window of a ground."""
+    return is_window(ground, value) and not repeats_below(value, ground.gap())
+
+
 def check_window(ground, value):
-    if not is_text_of(ground, value) or len(value) != ground.width():
+    if not is_window(ground, value):
+        raise InvalidWindow(value)
+
+
+def check_own_window(ground, value):
+    if not is_own_window(ground, value):
         raise InvalidWindow(value)
 
 
@@ -54,13 +82,18 @@ def _check_two(ground, one, other):
     check_window(ground, other)
 
 
+def words_long(ground, length):
+    """Return the ascending list of the texts of a ground of a length."""
+    found = [""]
+    for _ in range(length):
+        found = [word + sign for word in found for sign in ground.signs()]
+    return found
+
+
 def windows(ground):
     """Return the ascending list of the windows of a ground."""
     check_ground(ground)
-    found = [""]
-    for _ in range(ground.width()):
-        found = [word + sign for word in found for sign in ground.signs()]
-    return found
+    return words_long(ground, ground.width())
 
 
 def own_windows(ground):
@@ -72,7 +105,7 @@ def is_own(ground, window):
     """Return whether a window has no period below the gap."""
     check_ground(ground)
     check_window(ground, window)
-    return least_period(window) >= ground.gap()
+    return not repeats_below(window, ground.gap())
 
 
 def many_own(ground):
@@ -130,6 +163,21 @@ def is_near_text(ground, one, other, value):
         return False
     width = ground.width()
     return text[at:at + width] == one and text[late:late + width] == other
+
+
+def pair_below(gap, words):
+    """Return of words of one length two, and a distance below the gap at which the second may lie behind the first.
+
+    They may be the same word; None is returned if there are no such two.
+    """
+    for distance in range(1, gap):
+        # At a distance not less than the length nothing lies over anything: every word begins with the empty one.
+        shared = max(len(words[0]) - distance, 0)
+        beginnings = {word[:shared]: word for word in words}
+        for word in words:
+            if word[distance:] in beginnings:
+                return (word, beginnings[word[distance:]], distance)
+    return None
 
 
 def next_ones(ground, window):

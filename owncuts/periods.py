@@ -11,6 +11,14 @@ def _is_had(text, period):
     return text.startswith(text[period:])
 
 
+def repeats_below(text, below):
+    """Return whether a text has a period below a number."""
+    for period in range(1, min(below, len(text))):
+        if _is_had(text, period):
+            return True
+    return False
+
+
 def periods(text):
     """Return the ascending list of the periods of a text."""
     check_text(text)

@@ -5,7 +5,8 @@ import unittest
 
 from owncuts import errors, grounds, periods
 from owncuts.grounds import Ground
-from support import ANY_OBJECTS, CALLS, GROUND, in_time, right_arguments, same_kind_and_worth
+from support import (
+    ANY_OBJECTS, CALLS, GROUND, NO_ROUNDS, NO_SETS, NO_TOLD, NO_VIEWS, in_time, right_arguments, same_kind_and_worth)
 
 
 class WrongArguments(unittest.TestCase):
@@ -77,6 +78,37 @@ class WrongArguments(unittest.TestCase):
 
 
 class Judges(unittest.TestCase):
+    def all_judges(self):
+        for call, parameters in CALLS:
+            if parameters[-1][0] == "value":
+                yield call, right_arguments(parameters)
+
+    def test_every_judge_tells_truth_of_any_object_and_leaves_it_as_it_was(self):
+        rights = [arguments[-1] for _, arguments in self.all_judges()]
+        self.assertEqual(len(rights), 21)
+        for call, arguments in self.all_judges():
+            for value in ANY_OBJECTS + NO_TOLD + NO_VIEWS + NO_ROUNDS + NO_SETS + rights + [arguments[:-1]]:
+                before = repr(value)
+                self.assertIn(repr(call(*arguments[:-1], value)), ("True", "False"), (call, value))
+                self.assertEqual(repr(value), before)
+
+    def test_every_judge_knows_what_is_right_and_what_is_bent(self):
+        for call, arguments in self.all_judges():
+            value = arguments[-1]
+            self.assertIs(call(*arguments), True, call)
+            for bent in (None, [value], (value,), {"a": value}, True, repr(value), 3):
+                self.assertIs(call(*arguments[:-1], bent), False, (call, bent))
+            if isinstance(value, (list, tuple)):
+                other = tuple if isinstance(value, list) else list
+                self.assertIs(call(*arguments[:-1], other(value)), False, call)
+                for at in range(len(value)):
+                    for strange in (None, GROUND, [value[at]], -1, "A"):
+                        bent = [*value[:at], strange, *value[at + 1:]]
+                        bent = bent if isinstance(value, list) else tuple(bent)
+                        self.assertIs(call(*arguments[:-1], bent), False, (call, bent))
+                for bent in (value + value, value[:-1], value + type(value)((None,))):
+                    self.assertIs(call(*arguments[:-1], bent), False, (call, bent))
+
     def test_any_object_is_judged_and_left_as_it_was(self):
         for value in ANY_OBJECTS + [("aabba", [0], {"a": 1}), [("aabba", 0, 1)], {"text": "aabba"}]:
             if isinstance(value, (list, dict, tuple)):
@@ -107,19 +139,50 @@ class Results(unittest.TestCase):
                 one, other = call(*right_arguments(parameters)), call(*right_arguments(parameters))
                 self.assertTrue(same_kind_and_worth(one, other), call)
 
-    def test_lists_are_new_each_time(self):
+    def change(self, thing):
+        """Change every list and dictionary within a thing; return how many there were."""
+        parts = []
+        if isinstance(thing, (list, tuple)):
+            parts = list(thing)
+        if isinstance(thing, dict):
+            parts = list(thing.values())
+        many = sum(self.change(part) for part in parts)
+        if isinstance(thing, list):
+            thing.append("changed")
+            thing.reverse()
+        if isinstance(thing, dict):
+            thing.clear()
+        return many + isinstance(thing, (list, dict))
+
+    def test_lists_and_dictionaries_are_new_each_time(self):
         many = 0
         for call, parameters in CALLS:
-            told = call(*right_arguments(parameters))
-            if isinstance(told, list):
-                many += 1
-                right = copy.deepcopy(told)
-                for row in told:
-                    if isinstance(row, list):
-                        row.append("changed")
-                told.append("changed")
-                self.assertEqual(call(*right_arguments(parameters)), right, call)
-        self.assertEqual(many, 9)
+            arguments = copy.deepcopy(right_arguments(parameters))
+            before = copy.deepcopy(arguments)
+            told = call(*arguments)
+            right = copy.deepcopy(told)
+            many += self.change(told) > 0
+            self.assertEqual(arguments[1:], before[1:], call)
+            if call is not Ground:
+                self.assertTrue(same_kind_and_worth(call(*arguments), right), call)
+        self.assertEqual(many, 48)
+
+    def test_arguments_changed_later_change_no_result(self):
+        for call, parameters in CALLS:
+            arguments = copy.deepcopy(right_arguments(parameters))
+            told = call(*arguments)
+            right = copy.deepcopy(told)
+            for thing in arguments:
+                self.change(thing)
+            if call is not Ground:
+                self.assertTrue(same_kind_and_worth(told, right), call)
+
+    def test_keys_ascend(self):
+        found = [call(*right_arguments(parameters)) for call, parameters in CALLS]
+        tables = [told for told in found if isinstance(told, dict)]
+        self.assertEqual(len(tables), 5)
+        for told in tables:
+            self.assertEqual(list(told), sorted(told))
 
     def test_a_ground_does_not_change(self):
         ground = Ground("abc", 2)

@@ -2,6 +2,7 @@
 
 import importlib
 import inspect
+import pathlib
 import unittest
 
 from owncuts.grounds import Ground
@@ -21,6 +22,53 @@ INTERFACE = {
         "near_text(ground, one, other)", "is_near_text(ground, one, other, value)", "next_ones(ground, window)",
         "lone_rings(ground)",
     ],
+    "owncuts.orders": [
+        "is_order(ground, value)", "plain_order(ground)", "rank_of(ground, order, window)", "depths(ground, order)",
+        "greatest_depth(ground, order)", "falling_path(ground, order)", "is_falling_path(ground, order, value)",
+        "mirrored_order(ground, order)",
+    ],
+    "owncuts.rounds": [
+        "are_rounds(ground, value)", "rounds_of(ground, order)", "order_of(ground, rounds)", "least_rounds(ground)",
+        "fewest_rounds(ground)", "are_fewest(ground, value)", "all_near(ground)", "is_all_near(ground, value)",
+        "are_sets(ground, number, value)", "sets_of(ground, rounds)", "rounds_by(ground, number, sets)",
+        "signs_for(number)", "rounds_for(many)",
+    ],
+    "owncuts.cuts": [
+        "window_at(ground, text, place)", "own_places(ground, text)", "cuts(ground, order, text)",
+        "inner_cuts(ground, order, text)", "are_cuts(ground, order, text, value)",
+        "cuts_by_rounds(ground, rounds, text)", "barred_by(ground, order, text, place)", "settled(ground, order, text)",
+        "asked_for(ground, order, text, place)", "order_for(ground, text, places)",
+        "is_order_for(ground, text, places, value)",
+    ],
+    "owncuts.pieces": [
+        "pieces(ground, order, text)", "cut_at(text, places)", "joined(pieces)", "places_between(pieces)",
+        "is_short(ground, word)", "is_long(ground, word)", "turn_of(ground, word)", "told_of(ground, word)",
+        "word_of(ground, told)", "is_told(ground, value)", "told_text(ground, order, text)", "text_of(ground, row)",
+        "size_of(ground, row)", "sure_cuts(ground, text)", "sure_pieces(ground, text)",
+        "retold(ground, order, text, position, times)", "told_again(ground, order, row)",
+        "is_told_text(ground, order, row)", "holding(ground, order, text, position)",
+    ],
+    "owncuts.rules": [
+        "is_rule(ground, value)", "marks(ground, rule, text)", "is_apart(ground, rule)", "near_marks(ground, rule)",
+        "is_near_marks(ground, rule, value)", "markable(ground, width, at, text)", "blind_text(ground, width, least)",
+        "is_blind_text(ground, width, least, value)", "is_whole(ground, rule)", "missed(ground, rule)",
+        "is_missed(ground, rule, value)", "reach(ground, order)", "rule_of(ground, order)",
+    ],
+    "owncuts.rings": [
+        "ring_windows(ground, ring)", "ring_cuts(ground, order, ring)", "ring_pieces(ground, order, ring)",
+        "rotated(ring, number)", "rotations_to(one, other)", "unrolled(ring, times)",
+        "sure_part(ground, order, ring, times)", "ring_order_for(ground, ring, places)",
+        "is_ring_order_for(ground, ring, places, value)",
+    ],
+    "owncuts.views": [
+        "views(ground, order)", "is_view(ground, order, value)", "view_at(ground, order, text, at)",
+        "text_of_view(ground, order, view)", "is_text_of_view(ground, order, view, value)",
+        "next_views(ground, order, view)", "fates(ground, order, word)", "text_with_cut(ground, order, word, place)",
+        "text_without_cut(ground, order, word, place)", "is_text_with_cut(ground, order, word, place, value)",
+        "is_text_without_cut(ground, order, word, place, value)", "twins(ground, order)", "heights(ground, order)",
+        "texts_of_twin(ground, order, twin)", "is_texts_of_twin(ground, order, twin, value)", "tolls(ground, order)",
+        "fates_begun(ground, order, text)",
+    ],
 }
 
 
@@ -30,6 +78,17 @@ class Interface(unittest.TestCase):
             module = importlib.import_module(place)
             for name in names:
                 self.assertEqual(getattr(module, name.partition("(")[0]).__module__, place, name)
+
+    def test_the_listed_names_are_those_of_the_document(self):
+        path = pathlib.Path(__file__).resolve().parent.parent.parent / "shared" / "DOC.md"
+        if not path.exists():
+            self.skipTest("the document is not at hand")
+        rows = [line.split(" | ") for line in path.read_text(encoding="utf-8").split("\n") if line.startswith("| `owncuts.")]
+        told = {row[0].strip("| `"): row[1].partition(" |")[0] for row in rows}
+        for place, names in INTERFACE.items():
+            listed = [f"`{name}`" for name in names if not name.startswith("Ground(")]
+            text = told[place].partition("`==`; ")[2] if place == "owncuts.grounds" else told[place]
+            self.assertEqual(", ".join(listed), text.removesuffix("|").strip(), place)
 
     def test_each_name_has_its_arguments(self):
         for place, names in INTERFACE.items():
@@ -45,7 +104,7 @@ class Interface(unittest.TestCase):
             self.assertEqual(str(inspect.signature(getattr(Ground, name))), "(self)")
 
     def test_all_calls_of_the_interface_are_tested(self):
-        listed = [name for place in ["owncuts.periods", "owncuts.grounds"] for name in INTERFACE[place]]
+        listed = [name for place in INTERFACE if place != "owncuts.errors" for name in INTERFACE[place]]
         tested = [f"{call.__name__}({', '.join(row[0] for row in rows)})" for call, rows in CALLS]
         self.assertEqual(sorted(tested), sorted(listed))
 

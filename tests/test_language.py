@@ -27,6 +27,13 @@ DUNDERS = ["__init__", "__eq__", "__repr__", "__str__", "__len__", "__enter__", 
 BARRED = (
     ast.AsyncFunctionDef, ast.AsyncFor, ast.AsyncWith, ast.Await, ast.Global, ast.Div, ast.SetComp, ast.TryStar)
 
+BARRED_WORDS = (
+    "mro elements open input law version_info with_traceback add_note register typing enum Enum Flag Generic Protocol ABC "
+    "namedtuple attrgetter breakpoint builtins compile copyright credits delattr dir eval exec exit gc globals help id "
+    "importlib license locals methodcaller os quit setattr super vars sys _cold _outside _record _member_names").split()
+BARRED_BEGINNINGS = (
+    "_wall", "_pe_", "_dcw_", "_enum_", "_cm_", "_twin_re_", "_lay_", "_law_", "_stub_", "_sre")
+
 
 class Language(unittest.TestCase):
     def each(self):
@@ -94,6 +101,54 @@ class Language(unittest.TestCase):
                     self.assertIsInstance(node.ctx, ast.Load, (name, node.lineno))
                 if isinstance(node, ast.arg):
                     self.assertFalse(hasattr(builtins, node.arg), (name, node.arg))
+
+    def test_no_name_is_that_of_an_import_of_its_file(self):
+        for name, _, tree in self.each():
+            imported = [one.name for node in tree.body if isinstance(node, ast.ImportFrom) for one in node.names]
+            classes = [node.name for node in tree.body if isinstance(node, ast.ClassDef)]
+            self.assertEqual(len(imported), len(set(imported)), name)
+            used = [node.id for node in ast.walk(tree) if isinstance(node, ast.Name) and isinstance(node.ctx, ast.Load)]
+            for word in imported:
+                self.assertIn(word, used, name)
+            for node in ast.walk(tree):
+                if isinstance(node, ast.arg):
+                    self.assertNotIn(node.arg, imported + classes, (name, node.lineno))
+                if isinstance(node, ast.Name) and not isinstance(node.ctx, ast.Load):
+                    self.assertNotIn(node.id, imported + classes, (name, node.lineno))
+                if isinstance(node, ast.FunctionDef):
+                    self.assertNotIn(node.name, imported + classes, (name, node.lineno))
+
+    def test_no_two_files_import_from_each_other(self):
+        needs = {}
+        for name, _, tree in self.each():
+            found = [node.module for node in tree.body if isinstance(node, ast.ImportFrom)]
+            needs["owncuts." + name[:-3]] = [module for module in found if module.startswith("owncuts.")]
+        while needs:
+            free = [module for module, others in needs.items() if not [other for other in others if other in needs]]
+            self.assertTrue(free, sorted(needs))
+            for module in free:
+                del needs[module]
+
+    def test_what_is_iterated_over_at_once_is_not_passed_on(self):
+        takers = ("list tuple dict sorted sum any all enumerate zip min max len reversed join map").split()
+        for name, _, tree in self.each():
+            for node in ast.walk(tree):
+                if isinstance(node, ast.Call):
+                    taker = node.func.id if isinstance(node.func, ast.Name) else node.func.attr
+                    for part in node.args:
+                        if isinstance(part, ast.Call) and isinstance(part.func, ast.Name):
+                            if part.func.id in ("range", "zip", "enumerate", "reversed", "map"):
+                                self.assertIn(taker, takers, (name, part.lineno))
+
+    def test_barred_words(self):
+        for name, _, tree in self.each():
+            words = [node.id for node in ast.walk(tree) if isinstance(node, ast.Name)]
+            words += [node.attr for node in ast.walk(tree) if isinstance(node, ast.Attribute)]
+            words += [node.name for node in ast.walk(tree) if isinstance(node, (ast.FunctionDef, ast.ClassDef))]
+            words += [node.arg for node in ast.walk(tree) if isinstance(node, ast.arg)]
+            for word in words:
+                self.assertNotIn(word, BARRED_WORDS, name)
+                self.assertFalse(word.startswith(BARRED_BEGINNINGS), (name, word))
 
     def test_methods(self):
         own = {node.name for _, _, tree in self.each() for node in ast.walk(tree) if isinstance(node, ast.FunctionDef)}
