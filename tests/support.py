@@ -261,7 +261,7 @@ CALLS = [
     (views.text_with_cut, _by_two(_WORD_OF, _WORD_PLACE)),
     (views.text_without_cut, _by_two(_WORD_OF, _WORD_PLACE)),
     (views.is_text_with_cut, _by_two(_WORD_OF, _WORD_PLACE, _value(("abababab", 0)))),
-    (views.is_text_without_cut, _by_two(_WORD_OF, _WORD_PLACE, _value(("abababab", 0)))),
+    (views.is_text_without_cut, _by_two(_WORD_OF, _WORD_PLACE, _value(("abababaa", 0)))),
     (views.twins, _by_two()),
     (views.heights, _by_two()),
     (views.texts_of_twin, _by_two(_TWIN)),
