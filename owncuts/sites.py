@@ -65,9 +65,12 @@ def chosen(sites, ranks):
     return sorted(found)
 
 
-def _is_barred(sites, cuts, taken, place):
-    """Return whether one of some cuts whose window is among those taken lies less than the gap from a place."""
-    return any([other in cuts and sites.windows[other] in taken for other in sites.near[place]])
+def _are_barred(sites, cuts, taken, places):
+    """Return whether near each of some places lies one of some cuts whose window is among those taken."""
+    for place in places:
+        if not any([other in cuts and sites.windows[other] in taken for other in sites.near[place]]):
+            return False
+    return True
 
 
 def order_choosing(ground, sites, places):
@@ -86,8 +89,7 @@ def order_choosing(ground, sites, places):
     taken = {}
     left = own_windows(ground)
     while left != []:
-        ready = [window for window in left
-                 if all([_is_barred(sites, cuts, taken, place) for place in open_places.get(window, [])])]
+        ready = [window for window in left if _are_barred(sites, cuts, taken, open_places.get(window, []))]
         if ready == []:
             return None
         for window in ready:

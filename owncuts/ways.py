@@ -117,7 +117,7 @@ def levels_along(ways, begun, signs):
         levels.append({view: True for view in later})
     for at in range(len(signs) - 1, -1, -1):
         behind = levels[at + 1]
-        levels[at] = {view: True for view in levels[at] if any([other in behind for other in ways[view]])}
+        levels[at] = {view: True for view in levels[at] if any([late in behind for late in ways[view]])}
     return levels
 
 

@@ -191,7 +191,7 @@ class Sets(unittest.TestCase):
             sets_of(WIDE, rows[1:])
 
     def test_rounds_by(self):
-        for ground, number in ((TWO, 2), (PAIRS, 3), (Ground("bdxz", 2), 3)):
+        for ground, number in ((TWO, 2), (TWO, 4), (PAIRS, 3), (PAIRS, 4), (Ground("bdxz", 2), 3)):
             for sets in self.every(ground.signs(), number):
                 if self.is_right(number, sets):
                     right = {}
@@ -205,6 +205,13 @@ class Sets(unittest.TestCase):
     def test_rounds_by_leaves_empty_ones_out(self):
         sets = {"c": [10 ** 29], "b": [7], "a": [5, 6]}
         self.assertEqual(rounds_by(PAIRS, 10 ** 29 + 1, sets), [["ab", "ac"], ["ba", "bc"], ["ca", "cb"]])
+
+    def test_one_round_has_no_sets(self):
+        for sets in ({"a": [0], "b": []}, {"a": [0], "b": [0]}, {"a": [], "b": []}):
+            self.assertIs(are_sets(TWO, 1, sets), False)
+            with self.assertRaises(errors.InvalidSets) as told:
+                rounds_by(TWO, 1, sets)
+            self.assertIs(told.exception.value, sets)
 
     def test_rounds_by_is_refused_ahead_of_wrong_sets(self):
         for sets in (None, {}, SETS, {"a": [0], "b": [1]}):
