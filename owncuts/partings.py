@@ -65,54 +65,38 @@ def heights_in(after):
     return {twin: found[twin] for twin in sorted(found)}
 
 
-def _soonest_cuts(ground, ways, view):
-    """Return the list of the tuples (sign, step): the next sign, and the step, of gap - 1, with a cut; 0 for none."""
+def _signs_to_a_cut(ground, ways, view):
+    """Return the dictionary of the next signs with which one of the gap - 1 places behind a view's can be a cut."""
     found = {}
     level = {(other[0][-1], other): True for other in ways[view]}
-    for step in range(1, ground.gap()):
+    for _ in range(ground.gap() - 1):
         later = {}
         for sign, at in level:
             if last_number(ground) in at[1]:
-                found[sign, step] = True
+                found[sign] = True
             else:
                 for other in ways[at]:
                     later[sign, other] = True
         level = later
-    for sign, _ in level:
-        found[sign, 0] = True
-    return list(found)
+    return found
 
 
-def _has_unlike_last(twin):
-    """Return whether the last cuts that the two texts have as yet are unlike."""
-    # One of the two tuples may be empty; then that text has its last cut farther ahead.
-    return twin[1][-1:] != twin[2][-1:]
-
-
-def _is_new_span(ground, twin, behind):
-    """Return whether the step from a twin to a next one ends a span of the second text that the first one lacks."""
-    number = last_number(ground)
-    return number in behind[2] and (number not in behind[1] or _has_unlike_last(twin))
-
-
-def _ends_a_span(twin, firsts, seconds):
-    """Return whether the texts can part right behind a twin so that a new span ends ahead of where they do."""
-    unlike = _has_unlike_last(twin)
-    return any([sign != other and late != 0 and (step != late or unlike)
-                for sign, step in firsts for other, late in seconds])
+def _ends_a_span(ground, ways, twin):
+    """Return whether two texts can part right behind a twin so that ahead of there the second one has one more cut."""
+    one, other = parted_views(twin)
+    signs = _signs_to_a_cut(ground, ways, other)
+    return any([late[0][-1] != sign for sign in signs for late in ways[one]])
 
 
 def tolls_in(ground, ways, after):
     """Return the dictionary from the twins, ascending, to their tolls."""
-    # The windows of the last gap - 1 places that both texts have alike reach behind these: there the signs are unlike.
-    soonest = {}
-    for twin in after:
-        for view in parted_views(twin):
-            if view not in soonest:
-                soonest[view] = _soonest_cuts(ground, ways, view)
+    # Two texts with one past and a cut at one place have the same cuts ahead of it, so at twins they have no new cut
+    # alike; nor in the last gap - 1 places ahead of where they part, whose windows reach behind that.
     found = {}
     for twin in _last_first(after):
-        one, other = parted_views(twin)
-        ended = [1] if _ends_a_span(twin, soonest[one], soonest[other]) else [0]
-        found[twin] = max(ended + [_is_new_span(ground, twin, behind) + found[behind] for behind in after[twin]])
+        most = 1 if _ends_a_span(ground, ways, twin) else 0
+        for behind in after[twin]:
+            new = 1 if last_number(ground) in behind[2] else 0
+            most = max(most, new + found[behind])
+        found[twin] = most
     return {twin: found[twin] for twin in sorted(found)}

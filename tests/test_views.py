@@ -272,6 +272,37 @@ class Twins(unittest.TestCase):
                 self.assertGreaterEqual(high[twin], least)
                 self.assertGreaterEqual(toll[twin], lowest)
 
+    def most_new(self, ground, order, twin, many):
+        """The most new spans of a twin, and its height, of all texts that go on by so many signs behind its word."""
+        text, _, at = texts_of_twin(ground, order, twin)
+        behind = at + len(twin[0])
+        # What stands far ahead makes an earlier cut, and changes nothing near the twin.
+        begin = ground.signs()[-1] + ground.signs()[0] * 30 + text[:behind]
+        at = len(begin) - len(twin[0])
+        ones, others = [], []
+        for signs in itertools.product(ground.signs(), repeat=many):
+            row = begin + "".join(signs)
+            found = [place for place in cuts(ground, order, row) if 0 <= place <= len(row)]
+            spans = set(zip(found, found[1:]))
+            numbers = tuple(place - at for place in found if ground.gap() - 1 <= place - at <= 3 * ground.gap() - 4)
+            if numbers == twin[1]:
+                ones.append((row, spans))
+            if numbers == twin[2]:
+                others.append((row, [span for span in spans if span[1] > at + 3 * ground.gap() - 4]))
+        most = high = 0
+        for (one, had), (other, spans) in itertools.product(ones, others):
+            alike = next(k for k in range(len(begin), len(one)) if one[k] != other[k])
+            high = max(high, alike - len(begin))
+            most = max(most, len([span for span in spans if span[1] <= alike and span not in had]))
+        return high, most
+
+    def test_of_all_ways_on_from_a_twin(self):
+        for told in WIDER:
+            high, toll = heights(WIDE, told.order), tolls(WIDE, told.order)
+            # Of those that part soon so few signs more show all.
+            for twin in [twin for twin in high if high[twin] <= 4][::3]:
+                self.assertEqual(self.most_new(WIDE, told.order, twin, 8), (high[twin], toll[twin]), twin)
+
     def test_no_way_leads_from_a_twin_back_to_like_views(self):
         for ground in (TWO, PAIRS, WIDE):
             for order in every(ground):
