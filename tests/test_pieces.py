@@ -5,6 +5,7 @@ import random
 import unittest
 
 from owncuts import errors
+from owncuts.cuts import cuts
 from owncuts.grounds import Ground, own_windows
 from owncuts.pieces import (
     cut_at, holding, is_long, is_short, is_told, is_told_text, joined, pieces, places_between, retold, size_of, sure_cuts,
@@ -176,16 +177,16 @@ class Told(unittest.TestCase):
 
 class Sure(unittest.TestCase):
     def test_of_all_orders(self):
-        every = [list(order) for order in itertools.permutations(PLAIN)][::7] + [
-            [one] + [other for other in PLAIN if other != one] for one in PLAIN]
-        for text in texts_up_to("abc", 5)[::2] + ["aabbab", "bbaabb", "aabbccaab", "ccbbaac"]:
-            told = [plain_cuts(PAIRS, order, text) for order in every]
-            self.assertEqual(sure_cuts(PAIRS, text), sorted(set(told[0]).intersection(*told)), text)
+        every = [list(order) for order in itertools.permutations(PLAIN)]
+        for text in texts_up_to("abc", 4) + ["aabbab", "bbaabb", "aabbccaab", "ccbbaac"]:
+            told = {tuple(cuts(PAIRS, order, text)) for order in every}
+            sure = set.intersection(*[set(found) for found in told])
+            self.assertEqual(sure_cuts(PAIRS, text), sorted(sure), text)
             spans = []
-            for order in every:
-                ends = [0] + places_between(plain_pieces(PAIRS, order, text)) + [len(text)]
+            for found in told:
+                ends = [0] + [place for place in found if 0 < place < len(text)] + [len(text)]
                 spans.append({span for span in zip(ends, ends[1:]) if span[0] < span[1]})
-            self.assertEqual(sure_pieces(PAIRS, text), sorted(spans[0].intersection(*spans)), text)
+            self.assertEqual(sure_pieces(PAIRS, text), sorted(set.intersection(*spans)), text)
 
     def test_of_wider_grounds(self):
         firsts = [[one] + [other for other in ORDER if other != one] for one in ORDER]
