@@ -1,6 +1,6 @@
 """What an argument has to be, apart from any ground, and the errors where it is not."""
 
-from owncuts.errors import InvalidNumber, InvalidPlace, InvalidText, InvalidWord
+from owncuts.errors import InvalidName, InvalidNumber, InvalidPlace, InvalidText, InvalidWord
 
 LETTERS = "abcdefghijklmnopqrstuvwxyz"
 
@@ -42,6 +42,11 @@ def is_word(value):
     return is_text(value) and value != ""
 
 
+def is_name(value):
+    """Return whether any object is a word of one to eight letters."""
+    return is_word(value) and len(value) <= 8
+
+
 def check_text(value):
     if not is_text(value):
         raise InvalidText(value)
@@ -50,6 +55,12 @@ def check_text(value):
 def check_word(value):
     if not is_word(value):
         raise InvalidWord(value)
+
+
+def check_new_name(value):
+    """Raise InvalidName unless the object may be a name, of whatever store."""
+    if not is_name(value):
+        raise InvalidName(value)
 
 
 def check_place_up_to(value, most):

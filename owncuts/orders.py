@@ -4,13 +4,18 @@ from owncuts.errors import InvalidOrder
 from owncuts.grounds import are_near, check_ground, check_own_window, is_own_window, many_own, own_windows
 
 
+def are_unlike_own(ground, value):
+    """Return whether any object is a list of own windows, each once, perhaps not of all."""
+    if not isinstance(value, list) or not all([is_own_window(ground, window) for window in value]):
+        return False
+    return len(set(value)) == len(value)
+
+
 def is_order(ground, value):
     """Return whether any object is a list of all own windows, each once."""
     check_ground(ground)
-    # The length is looked at first: so the windows of a wide ground are never listed here.
-    if not isinstance(value, list) or len(value) != many_own(ground):
-        return False
-    return all([is_own_window(ground, window) for window in value]) and len(set(value)) == len(value)
+    # How many there are is asked last: it takes long where the gap is far wider than the texts that are passed.
+    return are_unlike_own(ground, value) and value != [] and len(value) == many_own(ground)
 
 
 def check_order(ground, value):

@@ -1,6 +1,6 @@
 """Partings: how two texts that were alike can be at unlike views, and for how long they can stay so."""
 
-from owncuts.ways import last_number, turned
+from owncuts.ways import last_number, turned, way_to
 
 
 def parted_views(twin):
@@ -100,3 +100,49 @@ def tolls_in(ground, ways, after):
             most = max(most, new + found[behind])
         found[twin] = most
     return {twin: found[twin] for twin in sorted(found)}
+
+
+def _new_at_its_end(ground, twin):
+    """Return how many spans, one or none, the second text of a twin ends with its last number's place."""
+    return 1 if last_number(ground) in twin[2] else 0
+
+
+def _worst_beginning(ground, ahead, tolls):
+    """Return the most new spans ahead of where two texts part, and a twin right behind like views that leads to it."""
+    begun = [twin for twin, thing in ahead.items() if len(thing) == 2]
+    return max([(tolls[twin] + _new_at_its_end(ground, twin), twin) for twin in begun])
+
+
+def most_spans(ground, ways):
+    """Return the greatest number of new spans that end ahead of where a text is changed."""
+    after, ahead = partings_of(ways)
+    return _worst_beginning(ground, ahead, tolls_in(ground, ways, after))[0]
+
+
+def _row_to_a_toll(ground, after, tolls, twin):
+    """Return a list of twins, each a next one of the one ahead, from one on, whose new spans are the toll of that.
+
+    Where the last one's toll is not 0, that span ends right behind it.
+    """
+    row = [twin]
+    while True:
+        left = tolls[row[-1]]
+        on = [late for late in after[row[-1]] if 0 < left == tolls[late] + _new_at_its_end(ground, late)]
+        if on == []:
+            return row
+        row.append(on[0])
+
+
+def worst_rows(ground, ways):
+    """Return two rows of views of texts that part with the most new spans, and how many views lie ahead of that."""
+    after, ahead = partings_of(ways)
+    tolls = tolls_in(ground, ways, after)
+    _, begun = _worst_beginning(ground, ahead, tolls)
+    row = _row_to_a_toll(ground, after, tolls, begun)
+    pairs = [parted_views(twin) for twin in row]
+    one = [ahead[begun]] + [pair[0] for pair in pairs]
+    other = [ahead[begun]] + [pair[1] for pair in pairs]
+    if tolls[row[-1]] > 0:
+        ending = {view: True for view in ways if last_number(ground) in view[1]}
+        other.extend(way_to(ways, other[-1], ending)[1:])
+    return one, other, len(pairs) + 1

@@ -4,9 +4,9 @@ from owncuts.checks import are_places, check_number, check_place_up_to, check_te
 from owncuts.cuts import check_cutting, inner_cuts
 from owncuts.errors import InvalidCuts, InvalidPieces, InvalidTold, Refused
 from owncuts.grounds import check_ground, check_text_of, check_word_of, is_text_of, is_word_of
-from owncuts.orders import check_ground_and_order
+from owncuts.orders import check_ground_and_order, ranks_in
 from owncuts.periods import least_period, repeats_below, root
-from owncuts.sites import text_sites
+from owncuts.sites import chosen, text_sites
 
 
 def _cut_up(text, places):
@@ -17,9 +17,15 @@ def _cut_up(text, places):
     return [text[first:behind] for first, behind in zip([0] + places, ends)]
 
 
+def pieces_by(ground, ranks, text):
+    """Return the list of the pieces of a text by an order with these ranks."""
+    return _cut_up(text, [place for place in chosen(text_sites(ground, text), ranks) if 0 < place < len(text)])
+
+
 def pieces(ground, order, text):
     """Return the list of the pieces of a text by an order."""
-    return _cut_up(text, inner_cuts(ground, order, text))
+    check_cutting(ground, order, text)
+    return pieces_by(ground, ranks_in(order), text)
 
 
 def cut_at(text, places):
@@ -70,6 +76,11 @@ def _is_long(ground, word):
     return not _is_short(ground, word) and repeats_below(word[1:-1], ground.gap())
 
 
+def is_short_or_long(ground, value):
+    """Return whether any object is a word of a ground that can be told."""
+    return is_word_of(ground, value) and (_is_short(ground, value) or _is_long(ground, value))
+
+
 def is_short(ground, word):
     """Return whether a word has fewer than twice the gap signs."""
     _check_word(ground, word)
@@ -101,7 +112,7 @@ def told_of(ground, word):
     return (word[0], turn, times, word[1 + times * len(turn):-1], word[-1])
 
 
-def _word_so_told(told):
+def word_so_told(told):
     if len(told) == 1:
         return told[0]
     head, turn, times, rest, tail = told
@@ -113,7 +124,7 @@ def word_of(ground, told):
     check_ground(ground)
     if not is_told(ground, told):
         raise InvalidTold(told)
-    return _word_so_told(told)
+    return word_so_told(told)
 
 
 def _inside(told):
@@ -158,7 +169,7 @@ def text_of(ground, row):
     """Return the text that a list of told words tells."""
     check_ground(ground)
     check_row(ground, row)
-    return "".join([_word_so_told(told) for told in row])
+    return "".join([word_so_told(told) for told in row])
 
 
 def size_of(ground, row):
@@ -197,7 +208,7 @@ def retold(ground, order, text, position, times):
     row[position] = (head, turn, times, rest, tail)
     if not is_told(ground, row[position]):
         raise Refused(times)
-    return "".join([_word_so_told(told) for told in row])
+    return "".join([word_so_told(told) for told in row])
 
 
 def _fewer_times(ground, told):
@@ -214,8 +225,8 @@ def told_again(ground, order, row):
     check_ground_and_order(ground, order)
     check_row(ground, row)
     fewer = [_fewer_times(ground, told) for told in row]
-    found = told_text(ground, order, "".join([_word_so_told(told) for told in fewer]))
-    ends = _ends([_word_so_told(told) for told in found])
+    found = told_text(ground, order, "".join([word_so_told(told) for told in fewer]))
+    ends = _ends([word_so_told(told) for told in found])
     first = 0
     which = 0
     for told, short in zip(row, fewer):
@@ -227,7 +238,7 @@ def told_again(ground, order, row):
             if told[2] > short[2]:
                 head, turn, times, rest, tail = found[which]
                 found[which] = (head, turn, times + told[2] - short[2], rest, tail)
-        first += len(_word_so_told(short))
+        first += len(word_so_told(short))
     return found
 
 

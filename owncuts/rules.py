@@ -181,9 +181,14 @@ def reach(ground, order):
     return greatest_depth(ground, order) * (ground.gap() - 1)
 
 
+def rule_seeing(ground, order, width, at):
+    """Return the rule whose marks are the cuts by an order, where so much of a text tells whether a place is one."""
+    ranks = ranks_in(order)
+    words = words_long(ground, width)
+    return ([word for word in words if at in chosen(text_sites(ground, word), ranks)], at)
+
+
 def rule_of(ground, order):
     """Return the rule of twice the reach, its at the reach, whose marks are the cuts by an order."""
     at = reach(ground, order)
-    ranks = ranks_in(order)
-    words = words_long(ground, 2 * at)
-    return ([word for word in words if at in chosen(text_sites(ground, word), ranks)], at)
+    return rule_seeing(ground, order, 2 * at, at)

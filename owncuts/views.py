@@ -8,7 +8,7 @@ from owncuts.orders import check_ground_and_order, ranks_in
 from owncuts.partings import heights_in, parted_views, partings_of, tolls_in
 from owncuts.sites import chosen, row_part, text_sites
 from owncuts.ways import (
-    blank_view, last_number, levels_along, spelled, view_length, way_between, way_through, ways_of)
+    blank_view, last_number, levels_along, spelled, view_length, way_through, ways_of, whole_way)
 
 
 def views(ground, order):
@@ -56,17 +56,10 @@ def view_at(ground, order, text, at):
     return _view_in(ground, order, text, at)
 
 
-def _whole_way(ground, ways, row):
-    """Return a list of views from the blank one through a row of views to the blank one, and where the row begins."""
-    ahead = way_between(ways, blank_view(ground), row[0])
-    behind = way_between(ways, row[-1], blank_view(ground))
-    return ahead + row[1:] + behind[1:], len(ahead) - 1
-
-
 def text_of_view(ground, order, view):
     """Return any text that has a view, and the position at which its word begins."""
     ways = _ways_from(ground, order, view)
-    row, at = _whole_way(ground, ways, [view])
+    row, at = whole_way(ground, ways, [view])
     return (spelled(row), at)
 
 
@@ -133,7 +126,7 @@ def _text_telling(ground, order, word, place, told):
     fitting = [view for view in levels[place] if (ground.gap() - 1 in view[1]) == told]
     if fitting == []:
         return None
-    row, at = _whole_way(ground, ways, way_through(ways, levels, place, fitting[0]))
+    row, at = whole_way(ground, ways, way_through(ways, levels, place, fitting[0]))
     return (spelled(row), at + ground.gap() - 1)
 
 
@@ -211,8 +204,8 @@ def texts_of_twin(ground, order, twin):
     after, ahead = partings_of(ways)
     _check_twin(after, twin)
     view, up_to, on = _row_of_twins(after, ahead, twin)
-    one, _ = _whole_way(ground, ways, [view] + [parted_views(pair)[0] for pair in up_to + on])
-    other, first = _whole_way(ground, ways, [view] + [parted_views(pair)[1] for pair in up_to + on])
+    one, _ = whole_way(ground, ways, [view] + [parted_views(pair)[0] for pair in up_to + on])
+    other, first = whole_way(ground, ways, [view] + [parted_views(pair)[1] for pair in up_to + on])
     return (spelled(one), spelled(other), first + len(up_to))
 
 

@@ -53,7 +53,7 @@ def turned(after):
     return ahead
 
 
-def _leading_to(after, goal):
+def leading_to(after, goal):
     """Return the dictionary of the things from which steps lead to a goal."""
     ahead = turned(after)
     found = {goal: True}
@@ -79,26 +79,38 @@ def ways_of(ground, order):
             after[view] = _next_tries(ground, ranks, view)
             waiting.extend(after[view])
     # What cannot go on to the blank view told some place a cut, or none, against what came behind it.
-    lasting = _leading_to(after, blank)
+    lasting = leading_to(after, blank)
     return {view: [other for other in after[view] if other in lasting] for view in sorted(lasting)}
 
 
-def way_between(ways, first, goal):
-    """Return a shortest list of views, each a next one of the one ahead, from the first one to the goal."""
+def way_to(ways, first, goals):
+    """Return a shortest list of things, each a next one of the one ahead, from the first one to one of the goals.
+
+    One of them has to be found; `goals` is a dictionary with them as keys.
+    """
     ahead = {first: None}
     level = [first]
-    while goal not in ahead:
+    reached = [first] if first in goals else []
+    while reached == []:
         later = []
-        for view in level:
-            for other in ways[view]:
+        for thing in level:
+            for other in ways[thing]:
                 if other not in ahead:
-                    ahead[other] = view
+                    ahead[other] = thing
                     later.append(other)
+        reached = [thing for thing in later if thing in goals]
         level = later
-    row = [goal]
+    row = reached[:1]
     while row[-1] != first:
         row.append(ahead[row[-1]])
     return row[::-1]
+
+
+def whole_way(ground, ways, row):
+    """Return a list of views from the blank one through a row of views to the blank one, and where the row begins."""
+    ahead = way_to(ways, blank_view(ground), {row[0]: True})
+    behind = way_to(ways, row[-1], {blank_view(ground): True})
+    return ahead + row[1:] + behind[1:], len(ahead) - 1
 
 
 def spelled(row):

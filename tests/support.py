@@ -140,7 +140,8 @@ def _value(good):
     return ("value", good, None, [])
 
 
-# Each call of the interface: its parameters in their order, each with a right argument, its error, and wrong ones.
+# Each call of the modules up to views: its parameters in their order, each with a right argument, its error, and wrong
+# ones. (calls.py tells the others, too.)
 CALLS = [
     (periods.periods, [_TEXT]),
     (periods.has_period, [_TEXT, _number("period", 3)]),
@@ -269,15 +270,6 @@ CALLS = [
     (views.tolls, _by_two()),
     (views.fates_begun, _by_two(_TEXT_OF)),
 ]
-
-
-def right_arguments(parameters):
-    return [good for _, good, _, _ in parameters]
-
-
-def same_kind_and_worth(one, other):
-    """Whether two things are equal, and alike in their kinds all the way down."""
-    return one == other and repr(one) == repr(other)
 
 
 def in_time(case, action, *arguments):

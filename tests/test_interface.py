@@ -5,8 +5,10 @@ import inspect
 import pathlib
 import unittest
 
+from calls import CALLS, right_arguments, same_kind_and_worth
+from owncuts.desk import Desk
 from owncuts.grounds import Ground
-from support import CALLS, right_arguments, same_kind_and_worth
+from owncuts.store import Store
 from test_errors import WITH_VALUE, WITHOUT_VALUE
 
 INTERFACE = {
@@ -69,6 +71,51 @@ INTERFACE = {
         "texts_of_twin(ground, order, twin)", "is_texts_of_twin(ground, order, twin, value)", "tolls(ground, order)",
         "fates_begun(ground, order, text)",
     ],
+    "owncuts.edits": [
+        "edited(text, edit)", "edit_back(text, edit)", "edit_between(text, late)",
+        "changed_cuts(ground, order, text, edit)", "spans(ground, order, text)", "new_spans(ground, order, text, edit)",
+        "farthest(ground, order)", "farthest_edit(ground, order)", "is_farthest_edit(ground, order, value)",
+        "most_new(ground, order)", "worst_edit(ground, order)", "is_worst_edit(ground, order, value)",
+        "alike_pieces(ground, order, text, late)", "least_look(ground, order)", "least_rule(ground, order)",
+    ],
+    "owncuts.likeness": [
+        "cut_alike(ground, one, other)", "parting_text(ground, one, other)",
+        "is_parting_text(ground, one, other, value)", "idle_windows(ground, order)", "cuts_by_list(ground, row, text)",
+        "least_list(ground, order)",
+    ],
+    "owncuts.store": [
+        "Store(ground, order)", "store_of(ground, order, history, more)", "is_history(ground, value)", "names(store)",
+        "versions(store, name)", "text_in(store, name, number)", "put(store, name, text)", "drop(store, name, number)",
+        "swept(store)", "called(store, name, other)", "unused(store)", "new_pieces(store, text)", "uses(store, word)",
+        "recipe(store, name, number)", "sizes(store)", "edits_of(store, name)",
+    ],
+    "owncuts.meeting": [
+        "lacking(one, other, name, number)", "is_parcel(store, value)", "told_by(store, parcel)",
+        "unpacked(store, name, parcel)", "parcel_for(one, other, name, number)",
+        "is_parcel_for(one, other, name, number, value)", "fewest_items(one, other, name, number)",
+        "bars(one, other, name, number)", "are_bars(one, other, name, number, value)", "catch_up(one, other)",
+        "caught_up(store, sent)", "same_texts(one, other)",
+    ],
+    "owncuts.desk": ["Desk(ground, order)", "replayed(desk, record)"],
+    "owncuts.scripts": [
+        "play(desk, script)", "end_of(ground, order, script)", "shortened(ground, order, script)",
+        "alike(ground, order, one, other)", "first_unlike(ground, order, other, script)",
+        "fewest_kept(ground, orders, script)",
+    ],
+    "owncuts.papers": [
+        "ground_text(ground)", "read_ground(text)", "order_text(ground, order)", "read_order(text)",
+        "rounds_text(ground, rounds)", "read_rounds(text)", "row_text(ground, row)", "read_row(text)",
+        "rule_text(ground, rule)", "read_rule(text)", "store_text(store)", "read_store(text)",
+    ],
+}
+METHODS = {
+    Ground: ["signs()", "gap()", "width()"],
+    Store: ["ground()", "order()", "history()", "kept()"],
+    Desk: [
+        "store()", "names()", "versions(name)", "text_in(name, number)", "unused()", "put(name, text)",
+        "change(name, edit)", "drop(name, number)", "sweep()", "call(name, other)", "take(sent)", "newer(store)",
+        "touched(name)", "trial()", "attempt(action)", "copy()", "undo()", "redo()", "record()",
+    ],
 }
 
 
@@ -86,9 +133,13 @@ class Interface(unittest.TestCase):
         rows = [line.split(" | ") for line in path.read_text(encoding="utf-8").split("\n") if line.startswith("| `owncuts.")]
         told = {row[0].strip("| `"): row[1].partition(" |")[0] for row in rows}
         for place, names in INTERFACE.items():
-            listed = [f"`{name}`" for name in names if not name.startswith("Ground(")]
-            text = told[place].partition("`==`; ")[2] if place == "owncuts.grounds" else told[place]
-            self.assertEqual(", ".join(listed), text.removesuffix("|").strip(), place)
+            text = ", ".join([f"`{name}`" for name in names])
+            for kind, methods in METHODS.items():
+                if kind.__module__ == place:
+                    methods = [f"`{name}`" for name in methods + ["=="] * ("__eq__" in vars(kind))]
+                    first, _, rest = text.partition(")`, ")
+                    text = f"class {first})` with {', '.join(methods)}; {rest}"
+            self.assertEqual(text, told[place].removesuffix("|").strip(), place)
 
     def test_each_name_has_its_arguments(self):
         for place, names in INTERFACE.items():
@@ -97,11 +148,15 @@ class Interface(unittest.TestCase):
                 word = name.partition("(")[0]
                 self.assertEqual(word + str(inspect.signature(getattr(module, word))), name)
 
-    def test_methods_of_a_ground_stand_in_its_class(self):
-        for name in ["signs", "gap", "width", "__eq__"]:
-            self.assertIn(name, vars(Ground))
-        for name in ["signs", "gap", "width"]:
-            self.assertEqual(str(inspect.signature(getattr(Ground, name))), "(self)")
+    def test_methods_stand_in_their_classes(self):
+        for kind, methods in METHODS.items():
+            for name in methods:
+                word, _, rest = name.partition("(")
+                self.assertIn(word, vars(kind))
+                told = str(inspect.signature(getattr(kind, word)))
+                self.assertEqual(told, "(self)" if rest == ")" else f"(self, {rest}")
+        self.assertIn("__eq__", vars(Ground))
+        self.assertIn("__eq__", vars(Store))
 
     def test_all_calls_of_the_interface_are_tested(self):
         listed = [name for place in INTERFACE if place != "owncuts.errors" for name in INTERFACE[place]]
@@ -111,14 +166,11 @@ class Interface(unittest.TestCase):
     def test_arguments_by_position_and_by_name(self):
         for call, parameters in CALLS:
             told = call(*right_arguments(parameters))
-            named = {name: good for name, good, _, _ in reversed(parameters)}
-            first = parameters[0][0]
-            mixed = {name: good for name, good in named.items() if name != first}
-            if call is Ground:
-                self.assertEqual(told, call(**named))
-            else:
-                self.assertTrue(same_kind_and_worth(told, call(**named)), call)
-                self.assertTrue(same_kind_and_worth(told, call(named[first], **mixed)), call)
+            names = [row[0] for row in parameters]
+            for first in (0, 1):
+                arguments = right_arguments(parameters)
+                named = dict(reversed(list(zip(names, arguments))[first:]))
+                self.assertTrue(same_kind_and_worth(told, call(*arguments[:first], **named)), call)
 
 
 if __name__ == "__main__":
