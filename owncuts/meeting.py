@@ -210,7 +210,8 @@ def _texts_there(store):
     """Return the dictionary from the names that have versions that are there to the dictionaries of their texts."""
     found = {}
     for (name, _), row in rows_there(store).items():
-        found.setdefault(name, {})["".join(row)] = True
+        texts = found.setdefault(name, {})
+        texts["".join(row)] = True
     return found
 
 

@@ -118,6 +118,101 @@ plain = ["ab", "ac", "ba", "bc", "ca", "cb"]
 # [40, 14, 1, 1, 0]
 '''
 
+EDITS = '''
+from owncuts.grounds import Ground
+from owncuts.edits import alike_pieces, changed_cuts, edit_back, edit_between, edited, farthest, farthest_edit, is_farthest_edit, is_worst_edit, least_look, least_rule, most_new, new_spans, spans, worst_edit
+three = Ground("abc", 2)
+plain = ["ab", "ac", "ba", "bc", "ca", "cb"]
+[edited("abcab", (1, 2, "cc")), edit_back("abcab", (1, 2, "cc")), edit_between("abcab", "accab"), spans(three, plain, "bcbab")]
+# ['accab', (1, 2, 'bc'), (1, 1, 'c'), [(0, 2), (2, 4)]]
+[changed_cuts(three, plain, "bcba", (4, 0, "b")), new_spans(three, plain, "bcba", (4, 0, "b")), farthest(three, plain), most_new(three, plain), is_worst_edit(three, plain, worst_edit(three, plain)), alike_pieces(three, plain, "abcabba", "abcabcaacba")]
+# [([0, 1, 2], []), ([(0, 2), (2, 4)], []), (2, 2), (2, 2), True, (2, 1)]
+odd = ["ab", "ca", "ba", "bc", "cb", "ac"]
+[farthest(three, odd), least_look(three, odd), most_new(three, odd), is_farthest_edit(three, odd, farthest_edit(three, odd)), is_worst_edit(Ground("ab", 2), ["ab", "ba"], ("bbaabaab", (3, 1, "b")))]
+# [(4, 2), (3, 5), (3, 2), True, True]
+least_rule(Ground("ab", 2), ["ab", "ba"])
+# (['aaba', 'aabb', 'baba', 'babb', 'bbaa'], 2)
+'''
+
+LIKENESS = '''
+from owncuts.grounds import Ground
+from owncuts.likeness import cut_alike, cuts_by_list, idle_windows, is_parting_text, least_list, parting_text
+from owncuts.orders import plain_order
+three = Ground("abc", 2)
+plain = plain_order(three)
+[cut_alike(three, plain, ["ac", "ab", "ba", "bc", "ca", "cb"]), cut_alike(three, plain, ["ba", "ab", "ac", "bc", "ca", "cb"]), parting_text(three, plain, plain), is_parting_text(three, plain, ["ba", "ab", "ac", "bc", "ca", "cb"], ("aaba", 2)), cuts_by_list(three, ["bc"], "abcabc")]
+# [True, False, None, True, [2, 5]]
+twos = Ground("ab", 3)
+[idle_windows(twos, plain_order(twos)), len(least_list(twos, plain_order(twos))), idle_windows(three, plain)]
+# [['baab', 'babb'], 10, []]
+'''
+
+A_STORE = '''
+from owncuts.grounds import Ground
+from owncuts.store import Store, called, drop, edits_of, names, new_pieces, put, recipe, sizes, swept, text_in, unused, uses, versions
+three = Ground("abc", 2)
+plain = ["ab", "ac", "ba", "bc", "ca", "cb"]
+store = put(put(Store(three, plain), "notes", "abcabcaacba"), "notes", "abcabcabcaacba")
+[store.kept(), recipe(store, "notes", 1), new_pieces(store, "abcabba"), uses(store, "bca"), sizes(store), edits_of(store, "notes")]
+# [['a', 'aa', 'bc', 'bca', 'cb'], [0, 3, 3, 2, 1, 4, 0], ['bb'], [('notes', 0), ('notes', 1)], (25, 10), [(7, 0, 'bca')]]
+later = put(drop(store, "notes", 0), "long", "bbbbbbbbbbca")
+[later.history(), versions(later, "notes"), unused(later), later.kept() == put(swept(later), "notes", "abc").kept(), sizes(swept(drop(later, "notes", 1))), names(called(later, "notes", "old"))]
+# [{'long': ['bbbbbbbbbbca'], 'notes': [None, 'abcabcabcaacba']}, [1], [], True, (12, 6), ['long', 'old']]
+'''
+
+TWO_STORES = '''
+from owncuts.grounds import Ground
+from owncuts.meeting import are_bars, bars, catch_up, caught_up, fewest_items, is_parcel_for, lacking, parcel_for, same_texts, told_by, unpacked
+from owncuts.store import Store, put, text_in
+three = Ground("abc", 2)
+plain = ["ab", "ac", "ba", "bc", "ca", "cb"]
+mine = put(Store(three, plain), "notes", "abcabcaacba")
+yours = put(mine, "log", "abcabba")
+[lacking(yours, mine, "log", 0), fewest_items(yours, mine, "log", 0), len(bars(yours, mine, "log", 0)), are_bars(yours, mine, "log", 0, [(1, 2), (2, 3)]), is_parcel_for(yours, mine, "log", 0, (["bb"], [("copy", "notes", 0, 0, 2), ("piece", 2), ("piece", 0)]))]
+# [['bb'], 3, 2, True, True]
+[text_in(unpacked(mine, "log", parcel_for(yours, mine, "log", 0)), "log", 0), same_texts(yours, mine), same_texts(yours, caught_up(mine, catch_up(yours, mine))), catch_up(mine, yours)]
+# ['abcabba', False, True, []]
+'''
+
+A_DESK = '''
+from owncuts.desk import Desk, replayed
+from owncuts.grounds import Ground
+three = Ground("abc", 2)
+plain = ["ab", "ac", "ba", "bc", "ca", "cb"]
+desk = Desk(three, plain)
+[desk.put("notes", "abcabcaacba"), desk.change("notes", (7, 0, "bca")), desk.touched("notes"), desk.change("notes", (0, 3, "")), desk.text_in("notes", 2)]
+# [(0, ['a', 'aa', 'bc', 'bca', 'cb']), (1, []), (['a', 'aa', 'bc', 'bca', 'cb'], []), (2, []), 'abcabcaacba']
+[desk.drop("notes", 1), desk.sweep(), desk.undo(), desk.versions("notes"), desk.call("notes", "old"), desk.names(), desk.undo(), len(desk.record())]
+# [None, [], None, [0, 2], None, ['old'], None, 4]
+other = Desk(three, plain)
+[other.put("log", "abcabba"), other.take(desk.newer(other.store())), other.text_in("notes", 0), desk.newer(other.store()), replayed(Desk(three, plain), desk.record()).store() == desk.store()]
+# [(0, ['a', 'bb', 'bca']), 1, 'abcabcaacba', [], True]
+'''
+
+SCRIPTS = '''
+from owncuts.desk import Desk
+from owncuts.grounds import Ground
+from owncuts.scripts import alike, end_of, play, shortened
+three = Ground("abc", 2)
+plain = ["ab", "ac", "ba", "bc", "ca", "cb"]
+script = [("put", "a", "abab"), ("put", "a", "abba"), ("drop", "a", 0), ("undo",), ("try", [("put", "b", "a")]), ("text_in", "a", 1), ("drop", "a", 2)]
+play(Desk(three, plain), script)
+# [('told', (0, ['a', 'b', 'ba'])), ('told', (1, ['bb'])), ('done',), ('done',), ('tried', [('told', (0, []))]), ('told', 'abba'), ('refused', 'InvalidNumber')]
+[end_of(three, plain, script).history(), shortened(three, plain, script), alike(three, plain, script, script[:2])]
+# [{'a': ['abab', 'abba']}, [('put', 'a', 'abab'), ('put', 'a', 'abba'), ('drop', 'a', 0), ('undo',)], True]
+'''
+
+TEXTS = r'''
+from owncuts.grounds import Ground
+from owncuts.papers import ground_text, order_text, read_ground, read_row, row_text, rule_text, store_text
+from owncuts.store import Store, put
+two = Ground("ab", 2)
+[ground_text(two), order_text(two, ["ba", "ab"]), rule_text(two, (["ab"], 1)), read_ground("ground ab 2\n") == two]
+# ['ground ab 2\n', 'ground ab 2\nwindow ba\nwindow ab\n', 'ground ab 2\nrule 1\nword ab\n', True]
+[row_text(two, [("a",), ("a", "b", 4, "", "a")]), read_row("ground ab 2\nshort b\n")[1], store_text(put(Store(two, ["ab", "ba"]), "notes", "abba"))]
+# ['ground ab 2\nshort a\nlong a b 4 - a\n', [('b',)], 'ground ab 2\nwindow ab\nwindow ba\nname notes\nversion 3\nshort a\nshort bb\nshort a\nkept 0\n']
+'''
+
 
 class Examples(unittest.TestCase):
     def check(self, block, many):
@@ -160,6 +255,27 @@ class Examples(unittest.TestCase):
 
     def test_views(self):
         self.check(VIEWS, 3)
+
+    def test_edits(self):
+        self.check(EDITS, 4)
+
+    def test_likeness(self):
+        self.check(LIKENESS, 2)
+
+    def test_a_store(self):
+        self.check(A_STORE, 2)
+
+    def test_two_stores(self):
+        self.check(TWO_STORES, 2)
+
+    def test_a_desk(self):
+        self.check(A_DESK, 3)
+
+    def test_scripts(self):
+        self.check(SCRIPTS, 2)
+
+    def test_texts(self):
+        self.check(TEXTS, 2)
 
 
 if __name__ == "__main__":
