@@ -178,11 +178,7 @@ def bars(one, other, name, number):
 def _stands_in(rows, part):
     """Return whether a list of pieces stands so, one behind the other, in one of some lists."""
     many = len(part)
-    for row in rows.values():
-        for at in range(len(row) - many + 1):
-            if row[at:at + many] == part:
-                return True
-    return False
+    return any([row[at:at + many] == part for row in rows.values() for at in range(len(row))])
 
 
 def _are_pairs_within(value, many):

@@ -90,20 +90,16 @@ def end_of(ground, order, script):
     return _left_by(ground, order, script)
 
 
-def _copied(script):
-    """Return a script with its lists made anew."""
-    return [("try", _copied(command[1])) if command[0] == "try" else command for command in script]
-
-
 def shortened(ground, order, script):
     """Return a script without the commands that, from the last one to the first one, the outcome does not need."""
     goal = end_of(ground, order, script)
-    left = script
+    left = list(script)
     for position in range(len(script) - 1, -1, -1):
         fewer = left[:position] + left[position + 1:]
         if _left_by(ground, order, fewer) == goal:
             left = fewer
-    return _copied(left)
+    # No try is left, for it leaves all as it was: so no list stands within what is returned.
+    return left
 
 
 def alike(ground, order, one, other):

@@ -282,8 +282,10 @@ class Farthest(unittest.TestCase):
 class Pieces(unittest.TestCase):
     def test_alike_pieces(self):
         for ground, order in ((TWO, AB), (PAIRS, PLAIN), (GROUND, ORDER)):
-            texts = texts_up_to(ground.signs(), 4) + ["ab" * 5, "ab" * 6, "aab" * 4, "bab" + "ab" * 4 + "b"]
-            for text, late in itertools.product(texts[::3], texts[::2]):
+            texts = texts_up_to(ground.signs(), 4)
+            # Of these one begins and ends as another one does, with many pieces alike in between.
+            again = [part * many for part in ("ab", "aab", "abb", "aabb") for many in range(7)] + ["bab" + "ab" * 4 + "b"]
+            for text, late in [*itertools.product(texts[::3], texts[::2]), *itertools.product(again, repeat=2)]:
                 one, other = pieces(ground, order, text), pieces(ground, order, late)
                 ahead = max(many for many in range(min(len(one), len(other)) + 1) if one[:many] == other[:many])
                 rest, left = one[ahead:], other[ahead:]

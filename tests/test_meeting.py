@@ -169,14 +169,27 @@ class ForAVersion(unittest.TestCase):
         self.assertGreater(many, 3)
 
     def test_all_lists_are_judged(self):
-        one, other = some_store(PAIRS, PLAIN, 3), some_store(PAIRS, PLAIN, 9)
-        for (name, number), row in rows_of(one).items():
-            if len(row) <= 6:
-                right = plain_bars(row, rows_of(other))
+        yes = 0
+        for one, other in some_pairs():
+            for (name, number), row in rows_of(one).items():
+                right = plain_bars(row, rows_of(other)) if len(row) <= 5 else []
                 pairs = list(itertools.product(range(-1, len(row) + 1), repeat=2))
-                for many in range(3):
+                for many in range(3 if right and len(right[0]) < 3 else 0):
                     for value in itertools.product(pairs, repeat=many):
                         self.assertIs(are_bars(one, other, name, number, list(value)), list(value) in right)
+                yes += len(right) > 1
+        self.assertGreater(yes, 1)
+
+    def test_what_stands_anywhere_in_a_version_is_no_bar(self):
+        one = put(EMPTY, "x", "bcbacccabaa")
+        other = put(EMPTY, "y", "bababcbacbc")
+        row, there = row_of(one, "x", 0), row_of(other, "y", 0)
+        self.assertEqual((row, there), (["bc", "ba", "ccca", "baa"], ["ba", "ba", "bc", "ba", "cb", "c"]))
+        self.assertIs(are_bars(one, other, "x", 0, [(0, 2), (2, 3)]), True)
+        self.assertIs(are_bars(one, other, "x", 0, [(0, 1), (2, 3)]), False)
+        for value in itertools.product(itertools.combinations(range(len(row)), 2), repeat=len(bars(one, other, "x", 0))):
+            right = list(value) in plain_bars(row, {0: there})
+            self.assertIs(are_bars(one, other, "x", 0, list(value)), right)
 
     def test_all_parcels_of_few_items_are_judged(self):
         one = put(Store(PAIRS, PLAIN), "x", "abcabba")

@@ -289,6 +289,16 @@ class Papers(unittest.TestCase):
         ):
             self.assertEqual(read_store(text.replace(one, other)), store_of(TWO, ["ab", "ba"], history, more))
 
+    def test_numbers_of_very_many_figures(self):
+        for text in ("ground ab " + "9" * 5000 + "\n", "ground ab 2\nlong a b " + "9" * 5000 + " - a\n",
+                     "ground ab 2\nrule " + "9" * 5000 + "\nword ab\n"):
+            for reader in (read_ground, read_order, read_row, read_rule, read_store):
+                self.refused(reader, text)
+        text = store_text(put(Store(TWO, ["ab", "ba"]), "a", "abbbba"))
+        self.assertEqual(text.count("long b b 2 - b"), 1)
+        for times in (10 ** 29, 10 ** 12):
+            self.refused(read_store, text.replace("long b b 2 - b", f"long b b {times} - b"))
+
     def test_versions_of_1000_signs(self):
         dice = random.Random(6)
         for version in ("a" + "b" * 998 + "a", "".join(dice.choices("ab", k=1000)), "ab" * 500):

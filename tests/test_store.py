@@ -139,6 +139,8 @@ class Stores(unittest.TestCase):
             self.assertIs(one == other, False)
             self.assertIs(one != other, True)
         self.assertIs(Store(TWO, ["ab", "ba"]) == Store(Ground("ac", 2), ["ac", "ca"]), False)
+        self.assertIs(Store(TWO, ["ab", "ba"]) == Store(TWO, ["ba", "ab"]), False)
+        self.assertIs(put(Store(TWO, ["ab", "ba"]), "a", "aa") == put(Store(TWO, ["ba", "ab"]), "a", "aa"), False)
         # A longer way to the same thing.
         self.assertEqual(called(put(EMPTY, "b", "abcab"), "b", "a"), one)
         self.assertEqual(swept(store_of(PAIRS, PLAIN, {"a": ["abcab"]}, ["cc"])), one)
