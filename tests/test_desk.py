@@ -420,6 +420,67 @@ class Commands(unittest.TestCase):
                     self.assertLessEqual(len(far & set(desk.touched("a")[1])), most)
 
 
+class Arguments(unittest.TestCase):
+    """Each argument of each method: by position and by name, wrong alone and ahead of other wrong ones."""
+
+    # Of a text of 11 signs, not of 5.
+    EDITS = [edit for edit in NO_EDITS if edit not in [(6, 0, ""), (0, 6, ""), (3, 3, "")]] + [
+        (12, 0, ""), (0, 12, ""), (6, 6, ""), (0, 0, "d")]
+    METHODS = [
+        ("versions", [("name", "notes", errors.InvalidName, NO_NAMES)]),
+        ("text_in", [("name", "notes", errors.InvalidName, NO_NAMES), ("number", 0, errors.InvalidNumber, NO_NUMBERS)]),
+        ("put", [("name", "new", errors.InvalidName, NO_NEW_NAMES), ("text", "abc", errors.InvalidText, NO_TEXTS_OF_ABC)]),
+        ("change", [("name", "notes", errors.InvalidName, NO_NAMES), ("edit", (5, 0, "c"), errors.InvalidEdit, EDITS)]),
+        ("drop", [("name", "notes", errors.InvalidName, NO_NAMES), ("number", 1, errors.InvalidNumber, NO_NUMBERS)]),
+        ("call", [("name", "notes", errors.InvalidName, NO_NAMES), ("other", "old", errors.InvalidName, [*NO_NEW_NAMES, "notes"])]),
+        ("take", [("sent", [("log", PARCEL)], errors.InvalidParcel, NO_SENT)]),
+        ("newer", [("store", Store(PAIRS, PLAIN), errors.InvalidStore, NO_STORES)]),
+        ("touched", [("name", "notes", errors.InvalidName, NO_NAMES)]),
+    ]
+
+    def desk(self, *more):
+        desk = Desk(PAIRS, PLAIN)
+        for text in ("abcabcaacba", *more, "a"):
+            desk.put("notes", text)
+        desk.undo()
+        return desk
+
+    def test_right_ones(self):
+        for word, parameters in self.METHODS:
+            names = [row[0] for row in parameters]
+            goods = [row[1] for row in parameters]
+            one, other = self.desk("acaab"), self.desk("acaab")
+            told = getattr(one, word)(*goods)
+            self.assertEqual(getattr(other, word)(**dict(reversed(list(zip(names, goods))))), told)
+            self.assertEqual((one.store(), one.record()), (other.store(), other.record()))
+            if word in ("put", "change", "drop", "call", "take"):
+                self.assertEqual(one.record()[2:], [(word, *goods)])
+                with self.assertRaises(errors.NothingToRedo):
+                    one.redo()
+            else:
+                one.redo()
+
+    def test_wrong_ones(self):
+        desk = self.desk()
+        before = (desk.store(), desk.record())
+        for word, parameters in self.METHODS:
+            names = [row[0] for row in parameters]
+            for at, (_, _, kind, wrong) in enumerate(parameters):
+                for value in wrong:
+                    alone = [row[1] for row in parameters]
+                    alone[at] = value
+                    for arguments in (alone, alone[:at + 1] + [row[3][0] for row in parameters[at + 1:]]):
+                        for call in (lambda: getattr(desk, word)(*arguments), lambda: getattr(desk, word)(**dict(zip(names, arguments))),
+                                     lambda: getattr(desk, word)(**dict(reversed(list(zip(names, arguments)))))):
+                            with self.assertRaises(kind) as told:
+                                call()
+                            self.assertIs(type(told.exception), kind)
+                            self.assertIs(told.exception.value, value)
+        self.assertEqual((desk.store(), desk.record()), before)
+        desk.redo()
+        self.assertEqual(desk.record(), before[1] + [("put", "notes", "a")])
+
+
 class Blocks(unittest.TestCase):
     def desk(self):
         desk = Desk(PAIRS, PLAIN)

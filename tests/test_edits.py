@@ -235,7 +235,7 @@ class Farthest(unittest.TestCase):
 
     def test_farthest_edit_and_worst_edit(self):
         for ground in (TWO, PAIRS, GROUND, Ground("abcde", 2), Ground("xyz", 2), Ground("ab", 4)):
-            for order in some_orders(ground, 4):
+            for order in some_orders(ground, 4 if ground != GROUND else 30):
                 value = farthest_edit(ground, order)
                 self.check_edit(ground, order, value, farthest(ground, order), None)
                 self.assertIs(is_farthest_edit(ground, order, value), True)
